@@ -1,0 +1,1 @@
+"""Earmarks: cuts that only deepen, and whose beast it is."""
